@@ -1,0 +1,1 @@
+"""Stairlanes: balls that run through forks, and end as stairs."""

@@ -1,0 +1,16 @@
+"""What kind of thing was handed in, asked of anything."""
+
+
+def is_whole(thing):
+    """Whether it is a whole number; a truth is an int to Python, but no number here."""
+    return isinstance(thing, int) and not isinstance(thing, bool)
+
+
+def is_below(thing, bound):
+    """Whether it is a whole number from 0 on and below the bound."""
+    return is_whole(thing) and 0 <= thing < bound
+
+
+def is_row(thing, many):
+    """Whether it is a tuple of so many things."""
+    return isinstance(thing, tuple) and len(thing) == many

@@ -1,0 +1,126 @@
+"""The program's files keep to the small part of Python that they are held to, as far as a reading of them shows."""
+
+import ast
+import builtins
+import re
+import unittest
+from pathlib import Path
+
+PACKAGE = Path(__file__).resolve().parent.parent / "stairlanes"
+FILES = sorted(path for path in PACKAGE.rglob("*") if path.is_file() and "__pycache__" not in path.parts)
+OWN_NAMES = set("""len range enumerate zip min max sum abs sorted reversed int str bool bytes list tuple dict set frozenset
+    isinstance ord repr any all divmod Exception ValueError TypeError KeyError IndexError LookupError ZeroDivisionError
+    ArithmeticError OverflowError RuntimeError NotImplementedError AttributeError StopIteration""".split())
+METHODS = {"__init__", "__eq__", "__repr__", "__str__", "__len__"}
+WORDS = re.compile(r"\b(type|typing|typing_extensions|enum|Enum|IntEnum|StrEnum|Flag|IntFlag|Generic|Protocol|ABC|ABCMeta|"
+                   r"namedtuple|NamedTuple|TypedDict|TYPE_CHECKING|abstractmethod)\b|dataclass|overload|contextmanager")
+BARRED = (ast.With, ast.Match, ast.Global, ast.Nonlocal, ast.Yield, ast.YieldFrom, ast.Await, ast.AsyncFunctionDef,
+          ast.AsyncFor, ast.AsyncWith, ast.GeneratorExp, ast.NamedExpr, ast.Import, ast.Div, ast.MatMult)
+TOP = (ast.ImportFrom, ast.FunctionDef, ast.ClassDef, ast.Assign, ast.Expr)
+
+
+def texts():
+    return [(path.name, path.read_text(encoding="utf-8")) for path in FILES]
+
+
+def trees():
+    return [(name, ast.parse(text)) for name, text in texts()]
+
+
+def nodes(kind):
+    return [(f"{name}:{node.lineno}", node) for name, tree in trees() for node in ast.walk(tree) if isinstance(node, kind)]
+
+
+def bound_names(node):
+    if isinstance(node, ast.Name) and isinstance(node.ctx, ast.Store):
+        return [node.id]
+    if isinstance(node, ast.arg):
+        return [node.arg]
+    if isinstance(node, (ast.FunctionDef, ast.ClassDef)):
+        return [node.name]
+    return []
+
+
+class FilesTest(unittest.TestCase):
+    def test_files(self):
+        self.assertTrue(FILES)
+        for path in FILES:
+            self.assertRegex(path.name, r"^[a-z0-9_]+\.py$")
+            self.assertEqual(path.parent, PACKAGE)
+
+    def test_signs_and_sizes(self):
+        for name, text in texts():
+            self.assertRegex(text, r"\A[\n -~]*\Z", name)
+            self.assertIsNone(WORDS.search(text), name)
+            rows = text.split("\n")
+            self.assertLessEqual(len(rows), 400, name)
+            self.assertLessEqual(max(len(row) for row in rows), 120, name)
+        for where, node in nodes(ast.FunctionDef):
+            self.assertLessEqual(node.end_lineno - node.lineno + 1, 40, where)
+
+
+class RowsTest(unittest.TestCase):
+    def test_top(self):
+        for name, tree in trees():
+            self.assertIsNotNone(ast.get_docstring(tree), name)
+            for at, node in enumerate(tree.body):
+                self.assertIsInstance(node, TOP, name)
+                self.assertTrue(not isinstance(node, ast.Expr) or at == 0, name)
+
+    def test_imports(self):
+        for where, node in nodes(ast.ImportFrom):
+            self.assertEqual(node.level, 0, where)
+            self.assertRegex(node.module, r"^stairlanes\.[a-z]+$", where)
+            drawn = ast.parse((PACKAGE / (node.module.split(".")[1] + ".py")).read_text(encoding="utf-8"))
+            told = {name for row in drawn.body for piece in ast.walk(row) for name in bound_names(piece)}
+            for name in node.names:
+                self.assertIn(name.name, told, where)
+
+    def test_barred_rows(self):
+        self.assertEqual([where for where, node in nodes(BARRED)], [])
+        for where, node in nodes((ast.For, ast.While)):
+            self.assertEqual(node.orelse, [], where)
+
+    def test_defs(self):
+        for where, node in nodes((ast.FunctionDef, ast.ClassDef)):
+            self.assertEqual(node.decorator_list, [], where)
+        for where, node in nodes((ast.FunctionDef, ast.Lambda)):
+            self.assertIsNone(node.args.vararg, where)
+            self.assertIsNone(node.args.kwarg, where)
+            self.assertEqual(node.args.posonlyargs, [], where)
+
+    def test_is_stands_beside_none_and_truths_alone(self):
+        for where, node in nodes(ast.Compare):
+            for sign, right in zip(node.ops, node.comparators):
+                if isinstance(sign, (ast.Is, ast.IsNot)):
+                    self.assertTrue(isinstance(right, ast.Constant) and right.value in (None, True, False), where)
+
+    def test_numbers(self):
+        for where, node in nodes(ast.Constant):
+            self.assertNotIsInstance(node.value, (float, complex), where)
+        for where, node in nodes(ast.BinOp):
+            if isinstance(node.op, ast.Pow):
+                self.assertTrue(isinstance(node.right, ast.Constant) and 0 <= node.right.value <= 64, where)
+
+
+class NamesTest(unittest.TestCase):
+    def test_plain_names_none_of_them_python_s_own(self):
+        for where, node in nodes((ast.Name, ast.arg, ast.FunctionDef, ast.ClassDef)):
+            for name in bound_names(node):
+                if name not in METHODS:
+                    self.assertRegex(name, r"\A[A-Za-z][A-Za-z0-9_]*\Z", where)
+                    self.assertFalse(hasattr(builtins, name), where)
+
+    def test_python_s_own_names(self):
+        for where, node in nodes(ast.Name):
+            if hasattr(builtins, node.id):
+                self.assertIn(node.id, OWN_NAMES, where)
+
+    def test_no_name_is_a_method_and_a_value(self):
+        methods = {row.name for where, node in nodes(ast.ClassDef) for row in node.body if isinstance(row, ast.FunctionDef)}
+        values = {node.attr for where, node in nodes(ast.Attribute) if isinstance(node.ctx, ast.Store)}
+        self.assertEqual(methods & values, set())
+
+
+if __name__ == "__main__":
+    unittest.main()
