@@ -14,3 +14,13 @@ def is_below(thing, bound):
 def is_row(thing, many):
     """Whether it is a tuple of so many things."""
     return isinstance(thing, tuple) and len(thing) == many
+
+
+def are_below(thing, many, bound):
+    """Whether it is a tuple of so many whole numbers from 0 on and below the bound."""
+    return is_row(thing, many) and all([is_below(number, bound) for number in thing])
+
+
+def are_from_nought(thing, many):
+    """Whether it is a tuple of so many whole numbers from 0 on."""
+    return is_row(thing, many) and all([is_whole(number) and number >= 0 for number in thing])

@@ -1,6 +1,6 @@
 """Nets: lanes, the forks that join them, and the order of their ends."""
 
-from stairlanes.kinds import is_below, is_row, is_whole
+from stairlanes.kinds import are_below, is_below, is_row, is_whole
 
 MOST_LANES = 16
 MOST_FORKS = 128
@@ -33,10 +33,8 @@ def is_fork(lanes, thing):
 
 def are_all_lanes(lanes, thing):
     """Whether it is a tuple of all lanes, each once."""
-    if not is_row(thing, lanes):
-        return False
     # Sorting comes last: things of unlike kinds can't be put in order.
-    return all([is_below(lane, lanes) for lane in thing]) and sorted(thing) == list(range(lanes))
+    return are_below(thing, lanes, lanes) and sorted(thing) == list(range(lanes))
 
 
 def layers(net):

@@ -1,5 +1,7 @@
 """Nets, numbers and wrong things that several tests use."""
 
+from stairlanes.counting import ends_of, turns_of
+
 # A stair net of four lanes, written out by hand.
 FOUR = (4, ((0, 1), (2, 3), (0, 3), (1, 2), (0, 1), (3, 2)), (0, 1, 3, 2))
 # Forks that stand in no order of layers, lanes of a pair that fall, ends in an odd order.
@@ -80,3 +82,79 @@ def anything():
     return [None, True, False, -1, -GREAT, "", "put", "0", "step", b"", b"put", (), (0,), (None,), [], [0], {},
             {0: 1}, set(), {0}, frozenset(), frozenset((0,)), range(3), Plain(), Plain, len, object(), bytearray(b"a"),
             nested(60), nested_list(60), (nested(59), nested(59), nested(59)), iter(()), ValueError("x")]
+
+
+FORK = (2, ((0, 1),), (0, 1))
+# A stair net for the lanes 0 and 2, not for the others.
+TREE = (4, ((0, 2), (0, 1), (2, 3)), (0, 2, 1, 3))
+# Even for all lanes, and yet no stair net.
+CROSSED = (4, ((2, 3), (0, 1), (0, 2), (1, 3)), (0, 2, 1, 3))
+# Turns of unlike forks are no fault here: pairs that aren't come to keep to themselves.
+TWICE = (2, ((0, 1), (0, 1)), (0, 1))
+# From one of the two pairs of its second level a ball breaks it, from the other none does.
+HALF_BROKEN = (3, ((2, 0), (2, 1)), (2, 1, 0))
+
+
+def somes(lanes):
+    """Each lane alone, all lanes, and some between."""
+    told = [(lane,) for lane in range(lanes)] + [tuple(range(lanes)), tuple(range(0, lanes, 2)), tuple(range(1, lanes))]
+    return sorted({some for some in told if some})
+
+
+def counts_on(lanes, some, balls):
+    """All counts from 0 of so many balls on some lanes, none on the others, as tuples rise."""
+    if lanes == 0:
+        return [()] if balls == 0 else []
+    told = []
+    for many in range(balls + 1 if lanes - 1 in some else 1):
+        told += [counts + (many,) for counts in counts_on(lanes - 1, some, balls - many)]
+    return sorted(told)
+
+
+def levels_by_counts(states_of):
+    """The levels, as sets, of what is come to: states_of tells all that so many balls come to, from the first on."""
+    seen, told = set(), []
+    while True:
+        level = set(states_of(len(told))) - seen
+        if not level:
+            return told
+        seen |= level
+        told.append(level)
+
+
+def places_by_counts(net, some):
+    """The levels of all places, by all counts there are on these lanes."""
+    def places(balls):
+        for counts in counts_on(net[0], some, balls):
+            ends = ends_of(net, counts)
+            yield turns_of(net, counts), tuple(many - min(ends) for many in ends)
+    return levels_by_counts(places)
+
+
+def with_one_changed(row, place, thing):
+    return row[:place] + (thing,) + row[place + 1:]
+
+
+def wrong_rows(row):
+    """Rows of the same numbers that are no tuple of just these: other kinds, a thing more or fewer."""
+    told = [list(row), set(row), dict(enumerate(row)), str(row), iter(row), row + (0,), (0,) + row, (row,), None]
+    if row:
+        told += [row[1:], row[:-1], ()]
+    for place, number in enumerate(row):
+        for thing in (None, str(number), (number,), [number], -1, bytes(number), Agreeing(), nested(50)):
+            told.append(with_one_changed(row, place, thing))
+        if number in (0, 1):
+            told.append(with_one_changed(row, place, bool(number)))
+    return told
+
+
+def wrong_books(book, wrong_states):
+    """Books that no looker takes, made of one that it takes and of things that are no states."""
+    told = [None, list(book), set(book), {state: True for state in book}, (book,), book + (None,), book + (book[0],),
+            book[1:], (), str(book), tuple(list(state) for state in book), dict(enumerate(book)), iter(book)]
+    for place in range(len(book)):
+        told.append(book[:place] + book[place + 1:])
+        told.append(book + (book[place],))
+    for thing in wrong_states + anything():
+        told += [book + (thing,), (thing,) + book, (thing,)]
+    return told

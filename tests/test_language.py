@@ -14,6 +14,12 @@ OWN_NAMES = set("""len range enumerate zip min max sum abs sorted reversed int s
 METHODS = {"__init__", "__eq__", "__repr__", "__str__", "__len__"}
 WORDS = re.compile(r"\b(type|typing|typing_extensions|enum|Enum|IntEnum|StrEnum|Flag|IntFlag|Generic|Protocol|ABC|ABCMeta|"
                    r"namedtuple|NamedTuple|TypedDict|TYPE_CHECKING|abstractmethod)\b|dataclass|overload|contextmanager")
+VALUE_METHODS = set("""append clear copy count endswith extend find get index insert isalnum isalpha isdigit islower isspace
+    isupper items join keys ljust lower lstrip partition pop remove replace reverse rfind rjust rpartition rsplit rstrip
+    setdefault split splitlines startswith strip update upper values zfill bit_length add discard sort""".split())
+KEYWORDS = {"sorted": {"key", "reverse"}, "min": {"key", "default"}, "max": {"key", "default"}, "sum": {"start"},
+            "enumerate": {"start"}, "zip": {"strict"}}
+WALKED = {"items", "keys", "values"}
 BARRED = (ast.With, ast.Match, ast.Global, ast.Nonlocal, ast.Yield, ast.YieldFrom, ast.Await, ast.AsyncFunctionDef,
           ast.AsyncFor, ast.AsyncWith, ast.GeneratorExp, ast.NamedExpr, ast.Import, ast.Div, ast.MatMult)
 TOP = (ast.ImportFrom, ast.FunctionDef, ast.ClassDef, ast.Assign, ast.Expr)
@@ -76,6 +82,29 @@ class RowsTest(unittest.TestCase):
             for name in node.names:
                 self.assertIn(name.name, told, where)
 
+    def test_no_two_files_draw_from_one_another(self):
+        drawn = {name: [row.module.split(".")[1] + ".py" for row in tree.body if isinstance(row, ast.ImportFrom)]
+                 for name, tree in trees()}
+        left = dict(drawn)
+        while left:
+            loose = [name for name in left if not any(other in left for other in left[name])]
+            self.assertNotEqual(loose, [], sorted(left))
+            left = {name: left[name] for name in left if name not in loose}
+
+    def test_what_is_drawn_in_is_used_and_named_once(self):
+        for name, tree in trees():
+            drawn = [alias.asname or alias.name for row in tree.body if isinstance(row, ast.ImportFrom) for alias in row.names]
+            used = {node.id for node in ast.walk(tree) if isinstance(node, ast.Name)}
+            bound = [word for node in ast.walk(tree) for word in bound_names(node)]
+            self.assertEqual([word for word in drawn if word not in used or word in bound], [], name)
+            self.assertEqual(len(drawn), len(set(drawn)), name)
+
+    def test_defs_are_not_hidden_by_locals(self):
+        for name, tree in trees():
+            defs = {row.name for row in tree.body if isinstance(row, (ast.FunctionDef, ast.ClassDef))}
+            bound = {word for node in ast.walk(tree) if isinstance(node, (ast.Name, ast.arg)) for word in bound_names(node)}
+            self.assertEqual(defs & bound, set(), name)
+
     def test_barred_rows(self):
         self.assertEqual([where for where, node in nodes(BARRED)], [])
         for where, node in nodes((ast.For, ast.While)):
@@ -101,6 +130,35 @@ class RowsTest(unittest.TestCase):
         for where, node in nodes(ast.BinOp):
             if isinstance(node.op, ast.Pow):
                 self.assertTrue(isinstance(node.right, ast.Constant) and 0 <= node.right.value <= 64, where)
+
+
+class CallsTest(unittest.TestCase):
+    def test_methods(self):
+        own = {row.name for where, node in nodes(ast.ClassDef) for row in node.body if isinstance(row, ast.FunctionDef)}
+        for where, node in nodes(ast.Call):
+            if isinstance(node.func, ast.Attribute):
+                self.assertIn(node.func.attr, VALUE_METHODS | own, where)
+
+    def test_keywords(self):
+        for where, node in nodes(ast.Call):
+            if isinstance(node.func, ast.Name) and hasattr(builtins, node.func.id):
+                words = {keyword.arg for keyword in node.keywords}
+                self.assertEqual(words - KEYWORDS.get(node.func.id, set()), set(), where)
+
+    def test_dicts_are_walked_on_the_spot(self):
+        for name, tree in trees():
+            spots = [node.iter for node in ast.walk(tree) if isinstance(node, (ast.For, ast.comprehension))]
+            for node in ast.walk(tree):
+                if isinstance(node, ast.Call) and isinstance(node.func, ast.Attribute) and node.func.attr in WALKED:
+                    self.assertTrue(any(node is spot for spot in spots), name)
+
+    def test_lambdas_on_one_row_have_unlike_parameters(self):
+        for name, tree in trees():
+            rows = [(node.lineno, [arg.arg for arg in node.args.args]) for node in ast.walk(tree) if isinstance(node, ast.Lambda)]
+            self.assertEqual([row for row in rows if rows.count(row) > 1], [], name)
+
+    def test_no_set_is_kept(self):
+        self.assertEqual([where for where, node in nodes((ast.Set, ast.SetComp))], [])
 
 
 class NamesTest(unittest.TestCase):
