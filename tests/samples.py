@@ -45,6 +45,13 @@ class Numbers:
                 forks.append(tuple(self.shuffled(range(lanes))[:2]))
         return lanes, tuple(forks), tuple(self.shuffled(range(lanes)))
 
+    def near(self, nets):
+        """One of the nets with a fork left out, turned round, or put behind once more."""
+        lanes, forks, ends = self.pick(nets)
+        at = self.below(len(forks))
+        ahead, fork, rest = forks[:at], forks[at], forks[at + 1:]
+        return lanes, self.pick((ahead + rest, ahead + (fork[::-1],) + rest, forks + (fork,))), ends
+
     def counts(self, lanes, low, high):
         return tuple(low + self.below(high - low + 1) for _ in range(lanes))
 

@@ -51,13 +51,7 @@ def two_half_nets(numbers, many):
         net = numbers.net(6, 8)
         if net[0] % 2 == 0:
             told.append(net)
-    for _ in range(many):
-        lanes, forks, ends = numbers.pick((merger(2), FOUR, merger(3), TWICE, rounds(2)))
-        at = numbers.below(len(forks))
-        changed = numbers.pick((forks[:at] + forks[at + 1:], forks[:at] + (forks[at][::-1],) + forks[at + 1:],
-                                forks + (forks[at],)))
-        told.append((lanes, changed, ends))
-    return told
+    return told + [numbers.near((merger(2), FOUR, merger(3), TWICE, rounds(2))) for _ in range(many)]
 
 
 class ByHandTest(unittest.TestCase):

@@ -30,14 +30,7 @@ def verdict_by_counts(net, some):
 
 def small_nets(numbers, many):
     """Mixed small nets, and such as come near a stair net, so that some break late."""
-    told = [numbers.net(4, 6) for _ in range(many)]
-    for _ in range(many):
-        lanes, forks, ends = numbers.pick((FOUR, TREE, CROSSED))
-        at = numbers.below(len(forks))
-        changed = numbers.pick((forks[:at] + forks[at + 1:], forks[:at] + (forks[at][::-1],) + forks[at + 1:],
-                                forks + (forks[at],)))
-        told.append((lanes, changed, ends))
-    return told
+    return [numbers.net(4, 6) for _ in range(many)] + [numbers.near((FOUR, TREE, CROSSED)) for _ in range(many)]
 
 
 class ByHandTest(unittest.TestCase):
