@@ -11,6 +11,11 @@ def is_below(thing, bound):
     return is_whole(thing) and 0 <= thing < bound
 
 
+def is_word(thing, word):
+    """Whether it is this text."""
+    return isinstance(thing, str) and thing == word
+
+
 def is_row(thing, many):
     """Whether it is a tuple of so many things."""
     return isinstance(thing, tuple) and len(thing) == many

@@ -1,7 +1,7 @@
 """Scenes of a weaving, and the deeds that lead from one to the next."""
 
 from stairlanes.errors import NoDeed, NoGroup
-from stairlanes.kinds import is_below, is_row, is_whole
+from stairlanes.kinds import is_below, is_row, is_whole, is_word
 from stairlanes.nets import end_of, next_fork
 
 
@@ -21,11 +21,6 @@ def is_deed(net, thing):
     if is_word(word, "put"):
         return is_below(first, net[0]) and is_many(second)
     return is_word(word, "join") and is_place(second) and is_below(first, second)
-
-
-def is_word(thing, word):
-    """Whether it is this text."""
-    return isinstance(thing, str) and thing == word
 
 
 def is_place(thing):

@@ -101,6 +101,18 @@ TWICE = (2, ((0, 1), (0, 1)), (0, 1))
 # From one of the two pairs of its second level a ball breaks it, from the other none does.
 HALF_BROKEN = (3, ((2, 0), (2, 1)), (2, 1, 0))
 
+# The depth that a stair net of so many lanes has at the least.
+LEAST = {1: 0, 2: 1, 4: 3, 8: 6, 16: 9}
+
+
+def layered(lanes, many):
+    """A net of so many layers alike, each of forks side by side."""
+    return lanes, tuple((lane, lane + 1) for lane in range(0, lanes - 1, 2)) * many, tuple(range(lanes))
+
+
+def with_ends(net, ends):
+    return net[0], net[1], ends
+
 
 def somes(lanes):
     """Each lane alone, all lanes, and some between."""
