@@ -11,6 +11,11 @@ def is_below(thing, bound):
     return is_whole(thing) and 0 <= thing < bound
 
 
+def has_few_figures(thing):
+    """Whether it is a whole number of at most thirty figures."""
+    return is_whole(thing) and abs(thing) < 10 ** 30
+
+
 def is_word(thing, word):
     """Whether it is this text."""
     return isinstance(thing, str) and thing == word

@@ -1,7 +1,7 @@
 """Scenes of a weaving, and the deeds that lead from one to the next."""
 
 from stairlanes.errors import NoDeed, NoGroup
-from stairlanes.kinds import is_below, is_row, is_whole, is_word
+from stairlanes.kinds import has_few_figures, is_below, is_row, is_whole, is_word
 from stairlanes.nets import end_of, next_fork
 
 
@@ -30,7 +30,7 @@ def is_place(thing):
 
 def is_many(thing):
     """Whether so many balls may be put: not 0, and of at most thirty figures."""
-    return is_whole(thing) and thing != 0 and abs(thing) < 10 ** 30
+    return has_few_figures(thing) and thing != 0
 
 
 def done(net, scene, deed):

@@ -132,7 +132,37 @@ class RowsTest(unittest.TestCase):
                 self.assertTrue(isinstance(node.right, ast.Constant) and 0 <= node.right.value <= 64, where)
 
 
+    def test_top_values_are_plain_or_defs_of_the_file(self):
+        for name, tree in trees():
+            defs = [row.name for row in tree.body if isinstance(row, ast.FunctionDef)]
+            for row in tree.body:
+                if isinstance(row, ast.Assign):
+                    for node in ast.walk(row.value):
+                        self.assertIsInstance(node, (ast.Constant, ast.Tuple, ast.Dict, ast.Name, ast.Load), name)
+                        self.assertTrue(not isinstance(node, ast.Name) or node.id in defs, name)
+
+    def test_errors_are_made_on_the_spot_and_taken_by_name(self):
+        for where, node in nodes(ast.Raise):
+            self.assertTrue(isinstance(node.exc, ast.Call) and isinstance(node.exc.func, ast.Name), where)
+            self.assertTrue(node.cause is None or (isinstance(node.cause, ast.Constant) and node.cause.value is None), where)
+        refusals = {"NoDeed", "NoGroup", "NoText", "NotEven", "NoLine"}
+        for where, node in nodes(ast.ExceptHandler):
+            self.assertTrue(isinstance(node.type, ast.Name) and node.type.id in refusals, where)
+
+
 class CallsTest(unittest.TestCase):
+    def test_own_defs_are_handed_as_many_things_as_they_take(self):
+        takes = {name: {row.name: len(row.args.args) for row in tree.body if isinstance(row, ast.FunctionDef)} for name, tree in trees()}
+        for name, tree in trees():
+            known = dict(takes[name])
+            for row in tree.body:
+                if isinstance(row, ast.ImportFrom):
+                    there = takes[row.module.split(".")[1] + ".py"]
+                    known.update({alias.name: there[alias.name] for alias in row.names if alias.name in there})
+            for node in ast.walk(tree):
+                if isinstance(node, ast.Call) and isinstance(node.func, ast.Name) and node.func.id in known:
+                    self.assertEqual(len(node.args), known[node.func.id], f"{name}:{node.lineno}")
+
     def test_methods(self):
         own = {row.name for where, node in nodes(ast.ClassDef) for row in node.body if isinstance(row, ast.FunctionDef)}
         for where, node in nodes(ast.Call):
